@@ -28,8 +28,11 @@ func isLong(t api.Txn) bool {
 
 // hasNoKey tells whether a number in the list is no key.
 func hasNoKey(list []int) bool {
-	return slices.ContainsFunc(list, func(k int) bool { return !below(k, api.MaxKeys) })
+	return slices.ContainsFunc(list, func(k int) bool { return !IsKey(k) })
 }
+
+// IsKey tells whether a number is a key.
+func IsKey(n int) bool { return below(n, api.MaxKeys) }
 
 func hasTwice(list []int) bool {
 	for i, k := range list {

@@ -5,13 +5,16 @@ import (
 	"strata/api"
 	"strata/intake"
 	"strata/sound"
+	"strata/versions"
 )
 
 // Strata is a store.
 type Strata struct {
-	parts, doers int
-	room, taken  int // versions: how many there may be, for how many room is taken
-	intake       intake.Intake
+	room, taken int // versions: how many there may be, for how many room is taken
+	intake      intake.Intake
+	makers      []maker
+	doers       []doer
+	took        int // up to this number the doers took the transactions
 }
 
 // Check tells the fault of a transaction (P3).
@@ -22,7 +25,11 @@ func New(parts int, doers int, room int) (*Strata, api.Errno) {
 	if parts < 1 || parts > api.MaxParts || doers < 1 || doers > api.MaxDoers || room < 0 || room > api.MaxRoom {
 		return nil, api.ErrSize
 	}
-	return &Strata{parts: parts, doers: doers, room: room}, api.OK
+	s := &Strata{room: room, makers: make([]maker, parts), doers: make([]doer, doers)}
+	for i := range s.makers {
+		s.makers[i].versions = versions.Map{}
+	}
+	return s, api.OK
 }
 
 // Submit takes a transaction; its number (P5).
@@ -54,18 +61,68 @@ func (s *Strata) Cut() int {
 	return s.intake.Batches()
 }
 
-// Step lets a worker make a step; did it do anything (P7, P8, P12)?
-func (s *Strata) Step(worker int) bool { return false }
+// Step lets a worker make a step; did it do anything (P7, P8)? The collector (P12) does nothing yet.
+func (s *Strata) Step(worker int) bool {
+	firstDoer := len(s.makers)
+	switch {
+	case worker < 0:
+		return false
+	case worker < firstDoer:
+		return s.makerStep(worker)
+	case worker < firstDoer+len(s.doers):
+		return s.doerStep(&s.doers[worker-firstDoer])
+	}
+	return false
+}
 
 // Result tells what came of a transaction (P9).
-func (s *Strata) Result(n int) (api.Result, api.Errno) { return api.Result{}, api.OK }
+func (s *Strata) Result(n int) (api.Result, api.Errno) {
+	if n < 1 || n > s.intake.Txns() {
+		return api.Result{}, api.ErrUnknown
+	}
+	r, ended := s.intake.Result(n)
+	if !ended {
+		return api.Result{}, api.ErrNotReady
+	}
+	return r, api.OK
+}
 
 // Read tells the value of a key behind a transaction, and whether it has one (P10).
-func (s *Strata) Read(key int, n int) (int, bool, api.Errno) { return 0, false, api.OK }
+func (s *Strata) Read(key int, n int) (int, bool, api.Errno) {
+	if e := s.unreadable(key, n); e != api.OK {
+		return 0, false, e
+	}
+	c, _ := s.versionsOf(key).Behind(key, n)
+	return c.Value, c.There, api.OK
+}
 
-// Show tells the numbers (P4). No worker makes steps yet, so those that come of steps are 0.
+// unreadable is the reason why a key's value behind a transaction can't be told, or OK.
+func (s *Strata) unreadable(key int, n int) api.Errno {
+	switch {
+	case !sound.IsKey(key):
+		return api.ErrKey
+	case n < 0 || n > s.intake.Txns():
+		return api.ErrUnknown
+	case n > s.intake.Done():
+		return api.ErrNotReady
+	case n < s.intake.Mark():
+		return api.ErrCollected
+	}
+	return api.OK
+}
+
+// Show tells the numbers (P4).
 func (s *Strata) Show() api.State {
-	return api.State{Txns: s.intake.Txns(), Batches: s.intake.Batches(), Taken: s.taken}
+	ready, _ := s.ready()
+	return api.State{
+		Txns:    s.intake.Txns(),
+		Batches: s.intake.Batches(),
+		Ready:   ready,
+		Done:    s.intake.Done(),
+		Mark:    s.intake.Mark(),
+		Taken:   s.taken,
+		Live:    s.live(),
+	}
 }
 
 // Run does all that is closed, with all workers at once (P11).

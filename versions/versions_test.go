@@ -1,0 +1,111 @@
+package versions
+
+import "testing"
+
+func wantBehind(t *testing.T, m Map, key int, n int, want Content, known bool) {
+	t.Helper()
+	if c, ok := m.Behind(key, n); c != want || ok != known {
+		t.Errorf("P8, P10: key %d behind %d: %+v, %v, want %+v, %v", key, n, c, ok, want, known)
+	}
+}
+
+var (
+	none  = Content{}
+	zero  = Content{Value: 0, There: true}
+	seven = Content{Value: 7, There: true}
+	nine  = Content{Value: -9, There: true}
+)
+
+func TestNoVersions(t *testing.T) {
+	m := Map{}
+	wantBehind(t, m, 0, 0, none, true)
+	wantBehind(t, m, 23, 150, none, true)
+	if m.Live() != 0 || len(m) != 0 {
+		t.Errorf("P4: %d live in %v", m.Live(), m)
+	}
+}
+
+// A placeholder hides all behind itself, and nothing ahead of itself.
+func TestPlaceholder(t *testing.T) {
+	m := Map{}
+	m.Make(3, 5)
+	wantBehind(t, m, 3, 0, none, true)
+	wantBehind(t, m, 3, 4, none, true)
+	wantBehind(t, m, 3, 5, none, false)
+	wantBehind(t, m, 3, 6, none, false)
+	wantBehind(t, m, 4, 6, none, true)
+	m.Say(3, 5, seven)
+	wantBehind(t, m, 3, 4, none, true)
+	wantBehind(t, m, 3, 5, seven, true)
+	wantBehind(t, m, 3, 150, seven, true)
+}
+
+// A version that is passed over lets through what lies ahead of it: a value, none, or a placeholder.
+func TestPassedOver(t *testing.T) {
+	m := Map{}
+	for _, n := range []int{1, 2, 4, 8} {
+		m.Make(3, n)
+	}
+	m.PassOver(3, 8)
+	m.PassOver(3, 2)
+	wantBehind(t, m, 3, 9, none, false)
+	wantBehind(t, m, 3, 3, none, false)
+	wantBehind(t, m, 3, 0, none, true)
+	m.PassOver(3, 4)
+	m.Say(3, 1, seven)
+	for n := 1; n <= 9; n++ {
+		wantBehind(t, m, 3, n, seven, true)
+	}
+	m = Map{}
+	m.Make(3, 1)
+	m.PassOver(3, 1)
+	wantBehind(t, m, 3, 1, none, true)
+}
+
+// What is said later counts, a value of 0 and none as much as any; each number sees its own.
+func TestSaid(t *testing.T) {
+	m := Map{}
+	for _, n := range []int{2, 3, 5, 6} {
+		m.Make(3, n)
+	}
+	m.Say(3, 6, nine)
+	m.Say(3, 3, none)
+	m.Say(3, 5, zero)
+	m.Say(3, 2, seven)
+	for n, want := range []Content{none, none, seven, none, none, zero, nine, nine} {
+		wantBehind(t, m, 3, n, want, true)
+	}
+}
+
+// To settle a version touches no other: neither of the key nor of the transaction.
+func TestSettledAlone(t *testing.T) {
+	m := Map{}
+	for _, key := range []int{3, 11} {
+		m.Make(key, 1)
+		m.Make(key, 2)
+	}
+	m.Say(3, 2, seven)
+	wantBehind(t, m, 3, 1, none, false)
+	wantBehind(t, m, 11, 1, none, false)
+	wantBehind(t, m, 11, 2, none, false)
+	m.PassOver(11, 1)
+	wantBehind(t, m, 3, 1, none, false)
+	wantBehind(t, m, 11, 1, none, true)
+	wantBehind(t, m, 11, 2, none, false)
+}
+
+// Every version is live, whatever became of it.
+func TestLive(t *testing.T) {
+	m := Map{}
+	for n := 1; n <= 5; n++ {
+		for key := range n {
+			m.Make(key, n)
+		}
+	}
+	m.Say(0, 1, seven)
+	m.Say(0, 2, none)
+	m.PassOver(0, 3)
+	if m.Live() != 15 {
+		t.Errorf("P4: %d live, want 15", m.Live())
+	}
+}
