@@ -52,15 +52,21 @@ func (p *pair) step(t *testing.T, worker int) bool {
 	return want
 }
 
+func (p *pair) run() {
+	p.m.run()
+	p.s.Run()
+}
+
 // compare asks all that can be asked.
 func (p *pair) compare(t *testing.T) {
 	t.Helper()
-	wantShow(t, p.s, p.m.show())
+	state := p.m.show()
+	wantShow(t, p.s, state)
 	for n := -2; n <= p.m.last()+2; n++ {
 		r, e := p.m.outcome(n)
 		wantResult(t, p.s, n, r, e)
 		for key := -1; key <= api.MaxKeys; key++ {
-			value, there, e := p.m.read(key, n)
+			value, there, e := p.m.read(state, key, n)
 			wantRead(t, p.s, key, n, value, there, e)
 		}
 	}
@@ -108,12 +114,13 @@ func drawInstr(r *rand.Rand, reads int, writes int) api.Instr {
 	return api.Instr{}
 }
 
-// Transactions, cuts and steps of all workers in drawn orders: every answer is the model's.
+// Transactions, cuts, steps of all workers and, in half of the stores, runs, in drawn orders: every answer is the model's.
 func TestDrawnOrders(t *testing.T) {
 	r := rand.New(rand.NewSource(7))
 	for range 150 {
 		parts, doers := 1+r.Intn(api.MaxParts), 1+r.Intn(api.MaxDoers)
 		p := beginPair(t, parts, doers, []int{30, 80, 500}[r.Intn(3)])
+		runs := r.Intn(2) == 0
 		for range 600 {
 			switch draw := r.Intn(100); {
 			case draw < 7:
@@ -122,6 +129,8 @@ func TestDrawnOrders(t *testing.T) {
 				p.cut(t)
 			case draw < 11:
 				p.compare(t)
+			case draw < 12 && runs:
+				p.run()
 			default:
 				p.step(t, r.Intn(parts+doers+3)-1)
 			}

@@ -179,6 +179,20 @@ func (m *model) waits(doer int) bool {
 	return false
 }
 
+// run ends all that is closed, and frees the doers.
+func (m *model) run() {
+	m.took = m.closed()
+	for part := range m.dealt {
+		m.dealt[part] = m.took
+	}
+	for n := range m.took {
+		m.txns[n+1].ended = true
+	}
+	for doer := range m.has {
+		m.has[doer] = 0
+	}
+}
+
 func (m *model) outcome(n int) (api.Result, api.Errno) {
 	if n < 1 || n > m.last() {
 		return api.Result{}, api.ErrUnknown
@@ -189,8 +203,8 @@ func (m *model) outcome(n int) (api.Result, api.Errno) {
 	return m.txns[n].result, api.OK
 }
 
-func (m *model) read(key int, n int) (int, bool, api.Errno) {
-	state := m.show()
+// read is given what show tells now: that takes its time.
+func (m *model) read(state api.State, key int, n int) (int, bool, api.Errno) {
 	switch {
 	case key < 0 || key >= api.MaxKeys:
 		return 0, false, api.ErrKey

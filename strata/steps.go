@@ -61,13 +61,11 @@ func (s *Strata) doerStep(d *doer) bool {
 	if d.txn == 0 {
 		return s.take(d)
 	}
-	look := func(key int) (versions.Content, bool) { return s.versionsOf(key).Behind(key, d.txn-1) }
-	if !d.machine.Step(look) {
-		return false
-	}
-	s.endIfDone(d)
-	return true
+	return s.advance(d, atOnce)
 }
+
+// atOnce waits for nobody: who makes a step, or reads, sees versions as they stand.
+func atOnce(int) {}
 
 // take gives the doer the next transaction in ready batches, if there is one.
 func (s *Strata) take(d *doer) bool {
@@ -75,7 +73,22 @@ func (s *Strata) take(d *doer) bool {
 		return false
 	}
 	s.took++
-	*d = doer{txn: s.took, machine: machine.New(s.intake.Txn(s.took))}
+	s.begin(d, s.took)
+	return true
+}
+
+// begin gives a doer that has none the transaction n.
+func (s *Strata) begin(d *doer, n int) {
+	*d = doer{txn: n, machine: machine.New(s.intake.Txn(n))}
+	s.endIfDone(d)
+}
+
+// advance does the next instruction of the doer's transaction; false, with nothing done, if that asks for a placeholder.
+func (s *Strata) advance(d *doer, await versions.Await) bool {
+	look := func(key int) (versions.Content, bool) { return s.versionsOf(key).Behind(key, d.txn-1, await) }
+	if !d.machine.Step(look) {
+		return false
+	}
 	s.endIfDone(d)
 	return true
 }

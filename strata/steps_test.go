@@ -80,18 +80,25 @@ func TestStepExample(t *testing.T) {
 	wantRead(t, s, 3, 4, 0, false, api.ErrUnknown)
 }
 
-// What the document's fourth example tells of the outcome, reached by steps.
+// wantOutcome is what the document's fourth example tells of results and values, and of the numbers behind them.
+func wantOutcome(t *testing.T, s *strata.Strata) {
+	t.Helper()
+	wantResult(t, s, 1, api.Result{Out: 5}, api.OK)
+	wantResult(t, s, 2, api.Result{Out: 10}, api.OK)
+	wantResult(t, s, 3, api.Result{Out: 10}, api.OK)
+	wantRead(t, s, 4, 3, 10, true, api.OK)
+	wantRead(t, s, 4, 2, 0, false, api.ErrCollected)
+	wantShow(t, s, api.State{Txns: 3, Batches: 1, Ready: 1, Done: 3, Mark: 3, Taken: 3, Live: 3})
+}
+
+// The outcome of the document's fourth example, reached by steps.
 func TestOutcomeExample(t *testing.T) {
 	s := example(t)
 	for range 14 {
 		s.Step(2)
 		s.Step(3)
 	}
-	wantResult(t, s, 2, api.Result{Out: 10}, api.OK)
-	wantResult(t, s, 3, api.Result{Out: 10}, api.OK)
-	wantRead(t, s, 4, 3, 10, true, api.OK)
-	wantRead(t, s, 4, 2, 0, false, api.ErrCollected)
-	wantShow(t, s, api.State{Txns: 3, Batches: 1, Ready: 1, Done: 3, Mark: 3, Taken: 3, Live: 3})
+	wantOutcome(t, s)
 }
 
 // The document's fifth example.

@@ -92,7 +92,7 @@ func (s *Strata) Read(key int, n int) (int, bool, api.Errno) {
 	if e := s.unreadable(key, n); e != api.OK {
 		return 0, false, e
 	}
-	c, _ := s.versionsOf(key).Behind(key, n)
+	c, _ := s.versionsOf(key).Behind(key, n, atOnce)
 	return c.Value, c.There, api.OK
 }
 
@@ -126,7 +126,10 @@ func (s *Strata) Show() api.State {
 }
 
 // Run does all that is closed, with all workers at once (P11).
-func (s *Strata) Run() {}
+func (s *Strata) Run() {
+	s.makeAll()
+	s.doAll()
+}
 
 // Collect lets all versions go that nobody can read; how many (P12).
 func (s *Strata) Collect() int { return 0 }

@@ -30,30 +30,34 @@ func (m Map) Make(key int, txn int) {
 }
 
 // Say makes the version of a transaction that has ended one with this content.
-func (m Map) Say(key int, txn int, c Content) {
-	m.settle(key, version{txn: txn, state: said, content: c})
-}
+func (m Map) Say(key int, txn int, c Content) { m.settle(key, txn, said, c) }
 
 // PassOver makes the version of a transaction that has ended one that is passed over.
-func (m Map) PassOver(key int, txn int) {
-	m.settle(key, version{txn: txn, state: passedOver})
-}
+func (m Map) PassOver(key int, txn int) { m.settle(key, txn, passedOver, Content{}) }
 
-func (m Map) settle(key int, settled version) {
+// settle leaves the numbers alone: others may be looking for theirs at the same time.
+func (m Map) settle(key int, txn int, became state, c Content) {
 	list := m[key]
 	for i := range list {
-		if list[i].txn == settled.txn {
-			list[i] = settled
+		if v := &list[i]; v.txn == txn {
+			v.state, v.content = became, c
 		}
 	}
 }
 
+// Await is called with the number of a version's transaction ahead of the look at what became of the version. Where transactions end at the same time, it comes back when that one has ended.
+type Await func(txn int)
+
 // Behind is what the key has behind the transaction n; false, if that hangs on a placeholder.
-func (m Map) Behind(key int, n int) (Content, bool) {
+func (m Map) Behind(key int, n int, await Await) (Content, bool) {
 	list := m[key]
 	for i := len(list) - 1; i >= 0; i-- {
 		v := &list[i]
-		if v.txn <= n && v.state != passedOver {
+		if v.txn > n {
+			continue
+		}
+		await(v.txn)
+		if v.state != passedOver {
 			return v.content, v.state == said
 		}
 	}

@@ -1,10 +1,13 @@
 package versions
 
-import "testing"
+import (
+	"slices"
+	"testing"
+)
 
 func wantBehind(t *testing.T, m Map, key int, n int, want Content, known bool) {
 	t.Helper()
-	if c, ok := m.Behind(key, n); c != want || ok != known {
+	if c, ok := m.Behind(key, n, func(int) {}); c != want || ok != known {
 		t.Errorf("P8, P10: key %d behind %d: %+v, %v, want %+v, %v", key, n, c, ok, want, known)
 	}
 }
@@ -92,6 +95,44 @@ func TestSettledAlone(t *testing.T) {
 	wantBehind(t, m, 3, 1, none, false)
 	wantBehind(t, m, 11, 1, none, true)
 	wantBehind(t, m, 11, 2, none, false)
+}
+
+// Ahead of a look at what became of a version its transaction is waited for: from the greatest number on, one by one, up to the first that is not passed over.
+func TestAwait(t *testing.T) {
+	became := map[int]func(Map){
+		2: func(m Map) { m.Say(3, 2, nine) },
+		4: func(m Map) { m.Say(3, 4, seven) },
+		5: func(m Map) { m.PassOver(3, 5) },
+		8: func(m Map) { m.PassOver(3, 8) },
+		9: func(m Map) { m.Say(3, 9, none) },
+	}
+	for _, c := range []struct {
+		n       int
+		want    Content
+		awaited []int
+	}{
+		{1, none, nil},
+		{2, nine, []int{2}},
+		{4, seven, []int{4}},
+		{7, seven, []int{5, 4}},
+		{8, seven, []int{8, 5, 4}},
+		{9, none, []int{9}},
+		{99, none, []int{9}},
+	} {
+		m := Map{}
+		for _, n := range []int{2, 4, 5, 8, 9} {
+			m.Make(3, n)
+			m.Make(11, n)
+		}
+		var awaited []int
+		got, known := m.Behind(3, c.n, func(txn int) {
+			awaited = append(awaited, txn)
+			became[txn](m)
+		})
+		if got != c.want || !known || !slices.Equal(awaited, c.awaited) {
+			t.Errorf("P11: behind %d: %+v, %v, having waited for %v, want %+v, %v", c.n, got, known, awaited, c.want, c.awaited)
+		}
+	}
 }
 
 // Every version is live, whatever became of it.
