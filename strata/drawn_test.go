@@ -57,6 +57,11 @@ func (p *pair) run() {
 	p.s.Run()
 }
 
+func (p *pair) collect(t *testing.T) {
+	t.Helper()
+	wantCollect(t, p.s, p.m.collect())
+}
+
 // compare asks all that can be asked.
 func (p *pair) compare(t *testing.T) {
 	t.Helper()
@@ -114,12 +119,21 @@ func drawInstr(r *rand.Rand, reads int, writes int) api.Instr {
 	return api.Instr{}
 }
 
-// Transactions, cuts, steps of all workers and, in half of the stores, runs, in drawn orders: every answer is the model's.
+// wantBounds: what P13 says of Live, Taken and the room.
+func wantBounds(t *testing.T, state api.State, room int) {
+	t.Helper()
+	if state.Live > state.Taken || state.Taken > room || state.Live < 0 {
+		t.Errorf("P13: with room %d: %+v", room, state)
+	}
+}
+
+// Transactions, cuts, steps of all workers (the collector among them) and, in half of the stores, runs and whole collections, in drawn orders: every answer is the model's.
 func TestDrawnOrders(t *testing.T) {
 	r := rand.New(rand.NewSource(7))
-	for range 150 {
+	for range 200 {
 		parts, doers := 1+r.Intn(api.MaxParts), 1+r.Intn(api.MaxDoers)
-		p := beginPair(t, parts, doers, []int{30, 80, 500}[r.Intn(3)])
+		room := []int{12, 30, 80, 500}[r.Intn(4)]
+		p := beginPair(t, parts, doers, room)
 		runs := r.Intn(2) == 0
 		for range 600 {
 			switch draw := r.Intn(100); {
@@ -131,10 +145,13 @@ func TestDrawnOrders(t *testing.T) {
 				p.compare(t)
 			case draw < 12 && runs:
 				p.run()
+			case draw < 13 && runs:
+				p.collect(t)
 			default:
 				p.step(t, r.Intn(parts+doers+3)-1)
 			}
 			wantShow(t, p.s, p.m.show())
+			wantBounds(t, p.s.Show(), room)
 		}
 		p.compare(t)
 		if t.Failed() {
@@ -143,12 +160,12 @@ func TestDrawnOrders(t *testing.T) {
 	}
 }
 
-// inTurns lets the makers and doers make so many steps, each in its turn, in an order that changes.
-func (p *pair) inTurns(t *testing.T, r *rand.Rand, steps int) {
+// inTurns lets the first so many workers make steps, each in its turn, in an order that changes.
+func (p *pair) inTurns(t *testing.T, r *rand.Rand, workers int, steps int) {
 	t.Helper()
 	for range steps {
 		moved := false
-		for _, worker := range r.Perm(p.parts + p.doers) {
+		for _, worker := range r.Perm(workers) {
 			moved = p.step(t, worker) || moved
 		}
 		if !moved {
@@ -170,9 +187,35 @@ func TestAllEnd(t *testing.T) {
 				}
 			}
 			p.cut(t)
-			p.inTurns(t, r, turns)
+			p.inTurns(t, r, parts+doers, turns)
 			if state := p.s.Show(); state.Done != state.Txns || state.Mark != state.Txns || state.Live != state.Taken {
 				t.Errorf("P13: %d parts, %d doers: %+v", parts, doers, state)
+			}
+			p.compare(t)
+		}
+	}
+}
+
+// The same with the collector among the workers: it keeps nobody from ending, and what is left is of each key at most one version.
+func TestAllEndWhileCollecting(t *testing.T) {
+	r := rand.New(rand.NewSource(11))
+	for parts := 1; parts <= api.MaxParts; parts++ {
+		for doers := 1; doers <= api.MaxDoers; doers++ {
+			p := beginPair(t, parts, doers, 200)
+			for !t.Failed() && p.s.Show().Txns < api.MaxTxns {
+				turns := 0
+				for range 30 + r.Intn(30) {
+					if txn := drawTxn(r); p.submit(t, txn) {
+						turns += len(txn.Code) + 2
+					}
+				}
+				p.cut(t)
+				p.inTurns(t, r, parts+doers+1, turns)
+				p.collect(t)
+				state := p.s.Show()
+				if state.Done != state.Txns || state.Mark != state.Txns || state.Live != state.Taken || state.Live > 7 { // drawn transactions write 7 keys
+					t.Fatalf("P13: %d parts, %d doers: %+v", parts, doers, state)
+				}
 			}
 			p.compare(t)
 		}

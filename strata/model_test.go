@@ -20,6 +20,7 @@ type done struct {
 	spoken map[int]bool // the keys of which it says what they have
 	behind [api.MaxKeys]cell
 	ended  bool
+	gone   [api.MaxKeys]bool // the keys of which its version was collected
 }
 
 // serial does a transaction alone, behind what the keys have.
@@ -107,8 +108,11 @@ func (m *model) cut() int {
 func (m *model) show() api.State {
 	state := api.State{Txns: m.last(), Batches: len(m.ends) - 1}
 	for n, d := range m.txns {
-		state.Taken += len(d.txn.Writes)
 		for _, key := range d.txn.Writes {
+			if d.gone[key] {
+				continue
+			}
+			state.Taken++
 			if n <= m.dealt[key%len(m.dealt)] {
 				state.Live++
 			}
@@ -130,8 +134,11 @@ func (m *model) show() api.State {
 
 func (m *model) step(worker int) bool {
 	parts, doers := len(m.dealt), len(m.has)
-	if worker < 0 || worker >= parts+doers {
+	if worker < 0 || worker > parts+doers {
 		return false
+	}
+	if worker == parts+doers {
+		return m.collectorStep() > 0
 	}
 	if worker < parts {
 		if m.dealt[worker] == m.closed() {
@@ -177,6 +184,37 @@ func (m *model) waits(doer int) bool {
 		}
 	}
 	return false
+}
+
+// collectorStep is how many versions went.
+func (m *model) collectorStep() int {
+	mark := m.show().Mark
+	for key := range api.MaxKeys {
+		went, kept := 0, false
+		for n := mark; n > 0; n-- {
+			d := &m.txns[n]
+			if d.gone[key] || !slices.Contains(d.txn.Writes, key) {
+				continue
+			}
+			if kept {
+				d.gone[key] = true
+				went++
+			}
+			kept = true
+		}
+		if went > 0 {
+			return went
+		}
+	}
+	return 0
+}
+
+func (m *model) collect() int {
+	went := m.collectorStep()
+	if went == 0 {
+		return 0
+	}
+	return went + m.collect()
 }
 
 // run ends all that is closed, and frees the doers.

@@ -220,12 +220,16 @@ func TestDrawnRuns(t *testing.T) {
 				p.cut(t)
 			}
 			for range r.Intn(150) {
-				p.step(t, r.Intn(parts+doers))
+				p.step(t, r.Intn(parts+doers+1))
 			}
 			p.run()
 			p.compare(t)
 			for worker := range parts + doers {
 				p.step(t, worker)
+			}
+			if r.Intn(2) == 0 {
+				p.collect(t)
+				p.compare(t)
 			}
 		}
 		if t.Failed() {
@@ -245,6 +249,7 @@ func TestRunsAreApart(t *testing.T) {
 				p.submit(t, drawTxn(r))
 				if r.Intn(12) == 0 {
 					p.run()
+					p.collect(t)
 				}
 			}
 			p.cut(t)

@@ -1,6 +1,7 @@
 package strata
 
 import (
+	"strata/api"
 	"strata/machine"
 	"strata/versions"
 )
@@ -61,11 +62,8 @@ func (s *Strata) doerStep(d *doer) bool {
 	if d.txn == 0 {
 		return s.take(d)
 	}
-	return s.advance(d, atOnce)
+	return s.advance(d, versions.AtOnce)
 }
-
-// atOnce waits for nobody: who makes a step, or reads, sees versions as they stand.
-func atOnce(int) {}
 
 // take gives the doer the next transaction in ready batches, if there is one.
 func (s *Strata) take(d *doer) bool {
@@ -107,4 +105,16 @@ func (s *Strata) endIfDone(d *doer) {
 	}
 	s.intake.End(d.txn, d.machine.Result())
 	*d = doer{}
+}
+
+// collectorStep lets the versions go that nobody can read of the least key that has such (P12), and tells how many went; 0, if no key has any.
+func (s *Strata) collectorStep() int {
+	mark := s.intake.Mark()
+	for key := range api.MaxKeys {
+		if went := s.versionsOf(key).Collect(key, mark); went > 0 {
+			s.taken -= went
+			return went
+		}
+	}
+	return 0
 }

@@ -12,7 +12,7 @@ func wantStep(t *testing.T, s *strata.Strata, want bool, workers ...int) {
 	t.Helper()
 	for _, w := range workers {
 		if s.Step(w) != want {
-			t.Errorf("P7, P8: Step(%d) is %v", w, !want)
+			t.Errorf("P7, P8, P12: Step(%d) is %v", w, !want)
 		}
 	}
 }

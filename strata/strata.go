@@ -61,16 +61,19 @@ func (s *Strata) Cut() int {
 	return s.intake.Batches()
 }
 
-// Step lets a worker make a step; did it do anything (P7, P8)? The collector (P12) does nothing yet.
+// Step lets a worker make a step; did it do anything (P7, P8, P12)?
 func (s *Strata) Step(worker int) bool {
 	firstDoer := len(s.makers)
+	collector := firstDoer + len(s.doers)
 	switch {
 	case worker < 0:
 		return false
 	case worker < firstDoer:
 		return s.makerStep(worker)
-	case worker < firstDoer+len(s.doers):
+	case worker < collector:
 		return s.doerStep(&s.doers[worker-firstDoer])
+	case worker == collector:
+		return s.collectorStep() > 0
 	}
 	return false
 }
@@ -92,7 +95,7 @@ func (s *Strata) Read(key int, n int) (int, bool, api.Errno) {
 	if e := s.unreadable(key, n); e != api.OK {
 		return 0, false, e
 	}
-	c, _ := s.versionsOf(key).Behind(key, n, atOnce)
+	c, _ := s.versionsOf(key).Behind(key, n, versions.AtOnce)
 	return c.Value, c.There, api.OK
 }
 
@@ -132,4 +135,10 @@ func (s *Strata) Run() {
 }
 
 // Collect lets all versions go that nobody can read; how many (P12).
-func (s *Strata) Collect() int { return 0 }
+func (s *Strata) Collect() int {
+	all := 0
+	for went := s.collectorStep(); went > 0; went = s.collectorStep() {
+		all += went
+	}
+	return all
+}

@@ -1,6 +1,8 @@
 // Package versions keeps what transactions say of keys.
 package versions
 
+import "slices"
+
 // Content is what a key has: a value, or none (the zero Content).
 type Content struct {
 	Value int
@@ -48,20 +50,43 @@ func (m Map) settle(key int, txn int, became state, c Content) {
 // Await is called with the number of a version's transaction ahead of the look at what became of the version. Where transactions end at the same time, it comes back when that one has ended.
 type Await func(txn int)
 
+// AtOnce waits for nobody: versions are seen as they stand.
+func AtOnce(int) {}
+
 // Behind is what the key has behind the transaction n; false, if that hangs on a placeholder.
 func (m Map) Behind(key int, n int, await Await) (Content, bool) {
 	list := m[key]
-	for i := len(list) - 1; i >= 0; i-- {
+	for i := upTo(list, n) - 1; i >= 0; i-- {
 		v := &list[i]
-		if v.txn > n {
-			continue
-		}
 		await(v.txn)
 		if v.state != passedOver {
 			return v.content, v.state == said
 		}
 	}
 	return Content{}, true
+}
+
+// upTo is how many versions of a list are of transactions up to n.
+func upTo(list []version, n int) int {
+	count := 0
+	for count < len(list) && list[count].txn <= n {
+		count++
+	}
+	return count
+}
+
+// Collect lets the key's versions up to the transaction mark go, all but the last one, and tells how many went. All transactions up to the mark have ended.
+func (m Map) Collect(key int, mark int) int {
+	list := m[key]
+	went := upTo(list, mark) - 1
+	if went < 1 {
+		return 0
+	}
+	// The last one may be passed over: as nothing stays ahead of it, it has to say itself what the key has.
+	c, _ := m.Behind(key, mark, AtOnce)
+	m.Say(key, list[went].txn, c)
+	m[key] = slices.Delete(list, 0, went)
+	return went
 }
 
 // Live is how many versions there are.

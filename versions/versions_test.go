@@ -7,7 +7,7 @@ import (
 
 func wantBehind(t *testing.T, m Map, key int, n int, want Content, known bool) {
 	t.Helper()
-	if c, ok := m.Behind(key, n, func(int) {}); c != want || ok != known {
+	if c, ok := m.Behind(key, n, AtOnce); c != want || ok != known {
 		t.Errorf("P8, P10: key %d behind %d: %+v, %v, want %+v, %v", key, n, c, ok, want, known)
 	}
 }
@@ -149,4 +149,83 @@ func TestLive(t *testing.T) {
 	if m.Live() != 15 {
 		t.Errorf("P4: %d live, want 15", m.Live())
 	}
+}
+
+func wantCollect(t *testing.T, m Map, key int, mark int, want int) {
+	t.Helper()
+	live := m.Live()
+	if went := m.Collect(key, mark); went != want || m.Live() != live-want {
+		t.Errorf("P12: key %d up to %d: %d went, %d of %d stay, want %d to go", key, mark, went, m.Live(), live, want)
+	}
+}
+
+// Of the versions up to the mark the last one stays.
+func TestCollect(t *testing.T) {
+	for mark, want := range []int{0, 0, 0, 1, 1, 2, 2, 2, 3, 3} {
+		m := Map{}
+		for _, n := range []int{2, 3, 5, 8} {
+			m.Make(3, n)
+			m.Say(3, n, Content{Value: n, There: true})
+		}
+		wantCollect(t, m, 3, mark, want)
+		wantCollect(t, m, 3, mark, 0)
+		for n := max(mark, 2); n <= 9; n++ {
+			wantBehind(t, m, 3, n, Content{Value: []int{2, 3, 3, 5, 5, 5, 8, 8}[n-2], There: true}, true)
+		}
+	}
+}
+
+// Placeholders behind the mark, and other keys, are left alone; what stays may be settled, and collected, later.
+func TestCollectAheadOfPlaceholders(t *testing.T) {
+	m := Map{}
+	for n := 1; n <= 4; n++ {
+		m.Make(3, n)
+		m.Make(11, n)
+	}
+	m.Say(3, 1, seven)
+	m.Say(3, 2, nine)
+	wantCollect(t, m, 4, 2, 0)
+	wantCollect(t, m, 3, 2, 1)
+	wantBehind(t, m, 3, 2, nine, true)
+	wantBehind(t, m, 3, 3, none, false)
+	wantBehind(t, m, 11, 1, none, false)
+	if len(m[11]) != 4 {
+		t.Errorf("P12: %d versions of the other key", len(m[11]))
+	}
+	m.Say(3, 4, zero)
+	m.PassOver(3, 3)
+	wantBehind(t, m, 3, 3, nine, true)
+	wantBehind(t, m, 3, 4, zero, true)
+	wantCollect(t, m, 3, 3, 1)
+	wantBehind(t, m, 3, 3, nine, true)
+	m.Make(3, 5)
+	wantCollect(t, m, 3, 4, 1)
+	wantBehind(t, m, 3, 4, zero, true)
+	wantBehind(t, m, 3, 5, none, false)
+}
+
+// Where the one that stays is passed over, it has what the key had.
+func TestCollectOntoPassedOver(t *testing.T) {
+	for _, c := range []Content{none, zero, seven} {
+		m := Map{}
+		for n := 1; n <= 4; n++ {
+			m.Make(3, n)
+		}
+		m.Say(3, 1, nine)
+		m.Say(3, 2, c)
+		m.PassOver(3, 3)
+		m.PassOver(3, 4)
+		wantCollect(t, m, 3, 3, 2)
+		wantBehind(t, m, 3, 3, c, true)
+		wantBehind(t, m, 3, 4, c, true)
+		wantCollect(t, m, 3, 4, 1)
+		wantBehind(t, m, 3, 4, c, true)
+	}
+	m := Map{}
+	m.Make(3, 1)
+	m.Make(3, 2)
+	m.PassOver(3, 1)
+	m.PassOver(3, 2)
+	wantCollect(t, m, 3, 2, 1)
+	wantBehind(t, m, 3, 2, none, true)
 }
